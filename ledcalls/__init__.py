@@ -1,0 +1,1 @@
+"""Ledcalls: calls led on and on."""
