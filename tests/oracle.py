@@ -1,0 +1,165 @@
+"""A second, slow model of points 5, 6 and 7, and many small houses and calls to hold beside it."""
+
+import random
+from itertools import product
+
+from samples import HOUSE
+
+STANDINGS = ('answers', 'unheard', 'busy', 'off')
+
+
+def flat(places, name):
+    """The phones of a group with repetitions, by recursion."""
+    place = places[name]
+    return [name] if place[0] == 'phone' else [phone for member in place[5] for phone in flat(places, member)]
+
+
+def once(names):
+    return list(dict.fromkeys(names))
+
+
+def visit(house, call, name):
+    """What happens at a place: the phones that are rung, the next name, and the end if there is none."""
+    places = {place[1]: place for place in house[2]}
+    phones = [place[1] for place in house[2] if place[0] == 'phone']
+    setting = dict(zip(phones, call[2]))
+    standing = dict(zip(phones, call[3]))
+    kind = places[name][0]
+    if kind == 'box':
+        return [], '', ('boxed', name)
+    if kind == 'phone':
+        hours, early, busy, unheard, off = setting[name]
+        if call[1] in hours:
+            return [], early, None
+        word = standing[name]
+        rung = [name] if word in ('answers', 'unheard') else []
+        after = {'answers': '', 'busy': busy, 'unheard': unheard, 'off': off}[word]
+        return rung, after, ('answered' if word == 'answers' else word, name)
+    ringing = [phone for phone in once(flat(places, name)) if standing[phone] in ('answers', 'unheard')]
+    answering = [phone for phone in ringing if standing[phone] == 'answers']
+    if not answering:
+        return ringing, places[name][6], ('unheard', name)
+    if places[name][4] == 'turns':
+        ringing = ringing[:ringing.index(answering[0]) + 1]
+    return ringing, '', ('answered', answering[0])
+
+
+def tell(house, call):
+    """All that the package tells of a call, as a dict."""
+    places = {place[1]: place for place in house[2]}
+    names, rung, told, name = [], [], '', call[0]
+    while True:
+        names.append(name)
+        ringing, after, end = visit(house, call, name)
+        rung.append(tuple(ringing))
+        if not after:
+            break
+        if after in names:
+            end = ('round', after)
+            break
+        if places[name][3] == 'own':
+            told = name
+        name = after
+    course = (tuple(names), end)
+    return {
+        'course': course, 'rung': tuple(rung), 'told': told, 'good': end[0] in ('answered', 'boxed'),
+        'counts': tuple(counts(house, call, len(names) - (end[0] != 'round'))),
+        'ever': counts(house, call, 60), 'harms': harms(house, call, course, rung)}
+
+
+def counts(house, call, most):
+    """The counts ahead of the first hops of a call, at most so many."""
+    sides = {place[1]: place[2] for place in house[2]}
+    found, count, name = [], 0, call[0]
+    while len(found) < most:
+        after = visit(house, call, name)[1]
+        if not after:
+            break
+        found.append(count)
+        count += 1
+        if sides[name] != sides[after] and house[0][sides[after]] == 'lost':
+            count = 0
+        name = after
+    return found
+
+
+def harms(house, call, course, rung):
+    """The harms that a call shows, ascending."""
+    phones = [place for place in house[2] if place[0] == 'phone']
+    who = [phone for ringing in rung for phone in ringing]
+    past = [
+        place[1] for place, setting, standing in zip(phones, call[2], call[3])
+        if place[1] in course[0] and call[1] in setting[0] and standing == 'answers']
+    barred = {name for called, name in house[1] if called == call[0]}
+    found = []
+    if barred & {*who, *([course[1][1]] if course[1][0] == 'boxed' else [])}:
+        found.append('barred')
+    if course[1][0] in ('busy', 'unheard', 'off') and past:
+        found.append('lost')
+    if course[1][0] == 'round':
+        found.append('round')
+    if len(set(who)) != len(who):
+        found.append('twice')
+    return tuple(found)
+
+
+def all_calls(house, hours):
+    """All calls of a house in these hours."""
+    phones = [place for place in house[2] if place[0] == 'phone']
+    for name, hour in product([place[1] for place in house[2]], hours):
+        for book in product(*[place[4] for place in phones]):
+            for standings in product(STANDINGS, repeat=len(phones)):
+                yield (name, hour, book, standings)
+
+
+def some_setting(chance, names):
+    links = [chance.choice([*names, '', '']) for _ in range(3)]
+    if chance.random() < 0.3:
+        return (tuple(sorted(chance.sample(range(4), chance.randint(1, 3)))), chance.choice(names), *links)
+    return ((), '', *links)
+
+
+def some_house(chance):
+    """Some house of up to seven places."""
+    names = chance.sample(['a', 'b', 'cc', 'd', 'ee', 'f', 'g', 'hh'], chance.randint(2, 7))
+    kinds = [chance.choice(['phone', 'phone', 'phone', 'group', 'box']) for _ in names]
+    places = []
+    for k, (name, kind) in enumerate(zip(names, kinds)):
+        side, shows = chance.randint(0, 1), chance.choice(['own', 'kept'])
+        # A group has later groups alone as members, so that none is within itself.
+        able = [other for j, other in enumerate(names) if kinds[j] == 'phone' or (kinds[j] == 'group' and j > k)]
+        if kind == 'group' and able:
+            members = tuple(chance.sample(able, chance.randint(1, len(able))))
+            way = chance.choice(['together', 'turns'])
+            places.append(('group', name, side, shows, way, members, chance.choice([*names, ''])))
+        elif kind == 'box':
+            places.append(('box', name, side))
+        else:
+            kinds[k] = 'phone'
+            settings = {some_setting(chance, names) for _ in range(chance.randint(1, 3))}
+            places.append(('phone', name, side, shows, tuple(sorted(settings))))
+    able = [place[1] for place in places if place[0] != 'group']
+    bars = {(chance.choice(names), chance.choice(able)) for _ in range(chance.randint(0, 5))}
+    border = (chance.choice(['kept', 'lost']), chance.choice(['kept', 'lost']))
+    return (border, tuple(sorted(bars)), tuple(places))
+
+
+def some_call(chance, house):
+    """Some call of a house."""
+    phones = [place for place in house[2] if place[0] == 'phone']
+    standing = chance.choice([STANDINGS, STANDINGS[1:]])
+    return (
+        chance.choice(house[2])[1], chance.randint(0, 4), tuple(chance.choice(place[4]) for place in phones),
+        tuple(chance.choice(standing) for _ in phones))
+
+
+def some_houses(many, seed):
+    """So many houses, always the same ones for a seed; the document's own is the first."""
+    chance = random.Random(seed)
+    return [HOUSE, *[some_house(chance) for _ in range(many)]]
+
+
+def some_calls(many, each, seed):
+    """Pairs of a house and a call of it: so many houses, with so many calls each."""
+    chance = random.Random(seed)
+    return [(house, some_call(chance, house)) for house in some_houses(many, seed) for _ in range(each)]

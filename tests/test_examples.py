@@ -1,0 +1,113 @@
+"""The document's own examples of the modules that stand, word for word."""
+
+import unittest
+
+from ledcalls import errors
+
+HOUSE = r"""
+    >>> ANN = ('phone', 'ann', 0, 'kept', (((), '', 'bob', 'desk', ''),))
+    >>> BOB = ('phone', 'bob', 1, 'own', (((), '', '', 'ann', ''), ((0, 1), 'vox', '', 'ann', '')))
+    >>> DESK = ('group', 'desk', 0, 'kept', 'turns', ('ann', 'bob'), 'vox')
+    >>> VOX = ('box', 'vox', 1)
+    >>> HOUSE = (('kept', 'lost'), (('bob', 'vox'),), (ANN, BOB, DESK, VOX))
+    >>> CALL = ('ann', 9, (ANN[4][0], BOB[4][0]), ('busy', 'unheard'))
+"""
+
+STAGE_1 = r"""
+    >>> from ledcalls.housechecker import is_house, lets_house
+    >>> [lets_house(HOUSE), is_house((('kept', 'kept'), (), [VOX]))]
+    [4, False]
+    >>> lets_house((('kept', 'kept'), (), (BOB, VOX)))
+    raises InvalidPaper(word='setting', at=(0, 0))
+
+    >>> from ledcalls.houseparts import come_to, leads_of, phones_of
+    >>> [phones_of(HOUSE, 'desk'), come_to(HOUSE, 'bob', 9), come_to(HOUSE, 'desk', 9)]
+    [('ann', 'bob'), ('ann', 'bob', 'desk', 'vox'), ('desk', 'vox')]
+    >>> leads_of(HOUSE, 0)
+    (('ann', 'busy', 'bob'), ('ann', 'unheard', 'desk'), ('bob', 'hours', 'vox'), ('bob', 'unheard', 'ann'), ('desk', 'after', 'vox'))
+
+    >>> from ledcalls.housechanges import moved, renamed, without_place, without_settings
+    >>> [without_settings(HOUSE, (('bob', BOB[4][1]),))[2][1][4], renamed(HOUSE, 'bob', 'zoe')[1], moved(HOUSE, 'vox', 0)[2][3]]
+    [(((), '', '', 'ann', ''),), (('zoe', 'vox'),), ('box', 'vox', 0)]
+    >>> without_place(HOUSE, 'ann')
+    raises InvalidPaper(word='setting', at=(0, 0))
+"""
+
+READINGS = r"""
+    >>> from ledcalls.housereadings import read_house, read_place
+    >>> from ledcalls.housetexts import house_text, place_text
+    >>> [place_text(BOB), place_text(DESK), read_place('box vox 1'), read_house(house_text(HOUSE)) == HOUSE]
+    ['phone bob 1 own\nsetting - - - ann -\nsetting 0,1 vox - ann -', 'group desk 0 kept turns vox ann bob', ('box', 'vox', 1), True]
+    >>> read_place('phone a 0 own\nsetting 3,12 b - - -\nsetting 3,12 b - - -', line=4)
+    raises InvalidText(line=6, field=5)
+    >>> read_house('border kept lost')
+    raises InvalidText(line=1, field=0)
+"""
+
+STAGE_2 = r"""
+    >>> from ledcalls.houseclasses import Chosen, House
+    >>> one = House.of(ANN, BOB, DESK, VOX)
+    >>> two = Chosen(('kept', 'lost'), (), (ANN, BOB, DESK, VOX), (ANN[4][0], BOB[4][1]))
+    >>> [one['vox'], 'desk' in one, (one + ('box', 'more', 0)).names_now, two(9) == one(9), two(0)[2], two <= one, str(House.of(VOX))]
+    [('box', 'vox', 1), True, ('ann', 'bob', 'desk', 'vox', 'more'), True, ('bob', 'hours', 'vox'), False, 'border kept kept\nbox vox 1']
+
+    >>> from ledcalls.callchecker import is_call, lets_call
+    >>> [is_call(HOUSE, CALL), lets_call(HOUSE, CALL[:3] + (('answers', 'off'),)), is_call(HOUSE, CALL[:2])]
+    [True, 1, False]
+    >>> lets_call(HOUSE, ('vox', 24, (), ()))
+    raises InvalidPaper(word='hour', at=-1)
+
+    >>> from ledcalls.courses import counts_in, course_of, is_cut, is_good, rung_in, told_caller
+    >>> [course_of(HOUSE, CALL), rung_in(HOUSE, CALL), counts_in(HOUSE, CALL), is_cut(HOUSE, CALL, 1), is_cut(HOUSE, CALL, 2)]
+    [(('ann', 'bob'), ('round', 'ann')), ((), ('bob',)), (0, 0), True, False]
+    >>> EARLY = ('bob', 1, (ANN[4][0], BOB[4][1]), ('unheard', 'answers'))
+    >>> [course_of(HOUSE, EARLY), rung_in(HOUSE, EARLY), told_caller(HOUSE, EARLY), is_good(HOUSE, EARLY)]
+    [(('bob', 'vox'), ('boxed', 'vox')), ((), ()), 'bob', True]
+    >>> rung_in(HOUSE, ('ann', 9, CALL[2], ('unheard', 'answers')))
+    (('ann',), ('ann', 'bob'))
+
+    >>> from ledcalls.harmshows import harms_shown
+    >>> [harms_shown(HOUSE, CALL), harms_shown(HOUSE, EARLY), harms_shown(HOUSE, ('ann', 9, CALL[2], ('unheard', 'answers')))]
+    [('round',), ('barred',), ('twice',)]
+
+    >>> from ledcalls.callreadings import read_call
+    >>> read_call(HOUSE, 'ann 9 0:busy 2:off')
+    raises InvalidText(line=0, field=3)
+"""
+
+
+def answer(source, names):
+    """Return what the document writes for the value of an expression, or for its error."""
+    try:
+        return repr(eval(source, names))
+    except errors.LedError as error:
+        fields = ', '.join(f'{field}={thing!r}' for field, thing in vars(error).items())
+        return f'raises {error.__class__.__name__}({fields})'
+
+
+class TestExamples(unittest.TestCase):
+
+    maxDiff = None
+
+    def run_examples(self, text):
+        rows = [row.strip() for row in (HOUSE + text).split('\n') if row.strip()]
+        names = {}
+        for k, row in enumerate(rows):
+            if row.startswith('>>> '):
+                if k + 1 < len(rows) and not rows[k + 1].startswith('>>> '):
+                    self.assertEqual(answer(row[4:], names), rows[k + 1], row)
+                else:
+                    exec(row[4:], names)
+
+    def test_stage_1(self):
+        self.run_examples(STAGE_1)
+
+    def test_readings(self):
+        self.run_examples(READINGS)
+
+    def test_stage_2(self):
+        self.run_examples(STAGE_2)
+
+
+if __name__ == '__main__':
+    unittest.main()

@@ -1,0 +1,130 @@
+"""The rules L1 to L28, as far as a test can see them."""
+
+import ast
+import importlib
+import pathlib
+import re
+import unittest
+
+from language import PACKAGE, faults_in
+from ledcalls import errors
+
+FOLDER = pathlib.Path(errors.__file__).parent
+FILES = sorted(FOLDER.glob('*.py'))
+# The interface: for each module its names, and the parameters of each.
+INTERFACE = {
+    'kinds': {name: ('thing',) for name in (
+        'is_integer', 'is_number', 'is_name', 'is_hour', 'is_hours', 'is_border', 'is_setting', 'is_place')},
+    'housechecker': {'is_house': ('thing',), 'lets_house': ('thing',)},
+    'houseparts': {
+        'names_in': ('house',), 'phones_in': ('house',), 'place_of': ('house', 'name'),
+        'settings_of': ('house', 'name'), 'phones_of': ('house', 'name'), 'side_of': ('house', 'name'),
+        'leads_of': ('house', 'hour'), 'come_to': ('house', 'name', 'hour')},
+    'housechanges': {
+        'with_place': ('house', 'place', '*', 'spot'), 'without_place': ('house', 'name'),
+        'with_settings': ('house', 'name', 'settings'), 'without_settings': ('house', 'taken'),
+        'with_bars': ('house', 'bars'), 'with_border': ('house', 'border'), 'moved': ('house', 'name', 'side'),
+        'renamed': ('house', 'old', 'new')},
+    'housereadings': {'read_place': ('text', '*', 'line'), 'read_house': ('text',)},
+    'housetexts': {'place_text': ('place',), 'house_text': ('house',)},
+    'callchecker': {'is_call': ('house', 'thing'), 'lets_call': ('house', 'thing')},
+    'courses': {
+        'course_of': ('house', 'call'), 'rung_in': ('house', 'call'), 'told_caller': ('house', 'call'),
+        'counts_in': ('house', 'call'), 'is_good': ('house', 'call'), 'is_cut': ('house', 'call', 'limit')},
+    'harmshows': {'harms_shown': ('house', 'call')},
+    'callreadings': {'read_call': ('house', 'text')},
+}
+BAD = {
+    'L10': 'def f():\n' + '    pass\n' * 40, 'L14': '# \u00e9', 'L2': 'from os import path', 'L16': 'import ledcalls',
+    'L3': 'N = len("a")', 'L4': 'def f(x=len("a")):\n    pass', 'L5': 'def f(x):\n    return sorted(x)',
+    'L6': 'def f(x):\n    x += 1', 'L7': 'def f(x):\n    return x / 2', 'L8': 'def f(x):\n    return hash(x)',
+    'L12': 'def __f():\n    pass', 'L15': 'def f(min):\n    pass', 'L17': 'def f(open):\n    pass',
+    'L19': 'def f():\n    try:\n        pass\n    except ValueError:\n        pass',
+    'L20': 'def f(x):\n    return x is 3', 'L21': 'def f(x: int):\n    pass', 'L23': 'def f(x):\n    for y in x:\n        x.pop()',
+    'L25': 'def f(x):\n    x.sort()', 'L27': 'N = "50%"', 'L18': 'class A:\n    def f(self):\n        pass\n    def f(self):\n        pass',
+}
+
+
+def tree_of(path):
+    return ast.parse(path.read_text())
+
+
+def modules_of(tree):
+    return [node.module for node in ast.walk(tree) if isinstance(node, ast.ImportFrom)]
+
+
+class TestLanguage(unittest.TestCase):
+
+    def test_the_checks_see_what_breaks_a_rule(self):
+        for rule, source in BAD.items():
+            self.assertIn(rule, [rule for _, rule in faults_in(source)])
+
+    def test_files(self):
+        for path in FOLDER.iterdir():
+            if path.name != '__pycache__':
+                self.assertTrue(path.is_file() and re.fullmatch('[a-z0-9]+[.]py|__init__[.]py', path.name), path)
+        self.assertIn(FOLDER / '__init__.py', FILES)
+        self.assertLessEqual(len(FILES), 100)
+        self.assertEqual(FOLDER.name, PACKAGE)
+
+    def test_each_file(self):
+        for path in FILES:
+            with self.subTest(path=path.name):
+                self.assertEqual(faults_in(path.read_text()), [])
+
+    def test_imports_name_the_file_that_defines_the_name(self):
+        for path in FILES:
+            for node in ast.walk(tree_of(path)):
+                if isinstance(node, ast.ImportFrom):
+                    other = tree_of(FOLDER / (node.module.split('.')[1] + '.py'))
+                    defined = [part.name for part in other.body if isinstance(part, (ast.FunctionDef, ast.ClassDef))]
+                    defined += [part.targets[0].id for part in other.body if isinstance(part, ast.Assign)]
+                    for alias in node.names:
+                        self.assertIn(alias.name, defined, path.name)
+                        self.assertFalse(alias.name.startswith('_'), path.name)
+
+    def test_no_two_files_import_from_each_other(self):
+        needs = {f'{PACKAGE}.{path.stem}': modules_of(tree_of(path)) for path in FILES}
+        while needs:
+            free = [name for name, others in needs.items() if not any(other in needs for other in others)]
+            self.assertTrue(free, needs)
+            needs = {name: others for name, others in needs.items() if name not in free}
+
+    def test_methods_that_are_called(self):
+        own = {node.name for path in FILES for node in ast.walk(tree_of(path)) if isinstance(node, ast.FunctionDef)}
+        allowed = own | set('append extend pop split join get index count items partition'.split())
+        for path in FILES:
+            for node in ast.walk(tree_of(path)):
+                if isinstance(node, ast.Call) and isinstance(node.func, ast.Attribute):
+                    self.assertIn(node.func.attr, allowed, path.name)
+
+    def test_attributes_that_are_read_are_assigned(self):
+        trees = [tree_of(path) for path in FILES]
+        nodes = [node for tree in trees for node in ast.walk(tree)]
+        assigned = {
+            node.attr for node in nodes if isinstance(node, ast.Attribute) and isinstance(node.ctx, ast.Store)}
+        called = {id(node.func) for node in nodes if isinstance(node, ast.Call)}
+        own = {node.name for node in nodes if isinstance(node, ast.FunctionDef)}
+        for node in nodes:
+            if isinstance(node, ast.Attribute) and isinstance(node.ctx, ast.Load) and id(node) not in called:
+                self.assertIn(node.attr, assigned | own)
+        self.assertFalse(assigned & own)
+
+
+class TestInterface(unittest.TestCase):
+
+    def test_functions_stand_in_their_files_with_their_parameters(self):
+        for name, functions in INTERFACE.items():
+            module = importlib.import_module(f'{PACKAGE}.{name}')
+            for function, wanted in functions.items():
+                made = getattr(module, function)
+                self.assertEqual(made.__module__, module.__name__)
+                code = made.__code__
+                many = code.co_argcount
+                late = code.co_varnames[many:many + code.co_kwonlyargcount]
+                got = (*code.co_varnames[:many], *(('*', *late) if late else ()))
+                self.assertEqual(got, wanted, function)
+
+
+if __name__ == '__main__':
+    unittest.main()
