@@ -47,3 +47,10 @@ def _let_standings(phones, standings):
     for k, standing in enumerate(standings):
         if not is_one_of(standing, STANDINGS):
             raise InvalidPaper("standing", k)
+
+
+def is_standings(house, thing):
+    """Return whether any value is a tuple with a standing for each phone."""
+    if not is_tuple_of(thing, len(listed_phones(house))):
+        return False
+    return all([is_one_of(standing, STANDINGS) for standing in thing])

@@ -1,9 +1,8 @@
 """Courses of calls: where they are, who is rung, which caller is told, at which counts they hop."""
 
 from ledcalls.callneeds import need_call
-from ledcalls.errors import NotUsable
-from ledcalls.kinds import is_number
 from ledcalls.moves import counts_along, loses_along, rung_at, scene_of, told_behind, walk
+from ledcalls.needs import need_limit
 from ledcalls.plainparts import table_of
 
 
@@ -41,8 +40,7 @@ def is_good(house, call):
 def is_cut(house, call, limit):
     """Return whether the call is cut by the limit."""
     names, end = course_of(house, call)
-    if not is_number(limit):
-        raise NotUsable("limit", -1)
+    need_limit(limit)
     if end[0] != "round":
         return _is_reached(limit, counts_along(house, names))
     ring = (*names[names.index(end[1]):], end[1])

@@ -8,6 +8,7 @@ HARMS = ("round", "twice", "lost", "barred")
 SHOWS = ("own", "kept")
 EDGES = ("kept", "lost")
 LETTERS = "abcdefghijklmnopqrstuvwxyz"
+HOURS = (0, 1, 2, 3, 4, 5, 6, 7, 8, 9, 10, 11, 12, 13, 14, 15, 16, 17, 18, 19, 20, 21, 22, 23)
 
 
 def is_integer(thing):
@@ -47,6 +48,13 @@ def is_side(thing):
 def is_one_of(thing, words):
     """Return whether thing is one of the words."""
     return isinstance(thing, str) and thing in words
+
+
+def is_harms(thing):
+    """Return whether thing is a tuple of different harms."""
+    if not isinstance(thing, tuple) or not all([is_one_of(harm, HARMS) for harm in thing]):
+        return False
+    return len({harm: True for harm in thing}) == len(thing)
 
 
 def is_tuple_of(thing, many):

@@ -91,24 +91,30 @@ def told_behind(table, names):
     return told
 
 
-def counts_along(house, names):
-    """Return the counts ahead of the hops along these places."""
+def counts_at(house, names):
+    """Return the counts at which a call is at these places, one behind the other."""
     table = table_of(house)
     counts = []
     count = 0
-    for k in range(len(names) - 1):
+    for k, name in enumerate(names):
+        if k > 0:
+            count = 0 if loses(house[0], table[names[k - 1]], table[name]) else count + 1
         counts.append(count)
-        count = 0 if _loses(house[0], table[names[k]], table[names[k + 1]]) else count + 1
     return tuple(counts)
+
+
+def counts_along(house, names):
+    """Return the counts ahead of the hops along these places."""
+    return counts_at(house, names[:-1])
 
 
 def loses_along(house, names):
     """Return whether the count is lost behind a hop along these places."""
     table = table_of(house)
     hops = range(len(names) - 1)
-    return any([_loses(house[0], table[names[k]], table[names[k + 1]]) for k in hops])
+    return any([loses(house[0], table[names[k]], table[names[k + 1]]) for k in hops])
 
 
-def _loses(border, place, target):
+def loses(border, place, target):
     """Return whether the count is lost behind a hop from a place to another one."""
     return place[2] != target[2] and border[target[2]] == "lost"

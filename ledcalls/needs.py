@@ -2,7 +2,7 @@
 
 from ledcalls.errors import NotUsable
 from ledcalls.housechecker import is_house
-from ledcalls.kinds import is_hour
+from ledcalls.kinds import HARMS, is_hour, is_number, is_one_of
 from ledcalls.plainparts import kind_named
 
 
@@ -18,7 +18,24 @@ def need_name(house, name, *, word="name", kinds=("phone", "group", "box")):
         raise NotUsable(word, -1)
 
 
+def need_called(house, called):
+    """Raise NotUsable if any value is not the name of a place that can be called."""
+    need_name(house, called, word="called")
+
+
 def need_hour(hour):
     """Raise NotUsable if any value is no hour."""
     if not is_hour(hour):
         raise NotUsable("hour", -1)
+
+
+def need_harm(harm):
+    """Raise NotUsable if any value is none of the four harms."""
+    if not is_one_of(harm, HARMS):
+        raise NotUsable("harm", -1)
+
+
+def need_limit(limit):
+    """Raise NotUsable if any value is no number, as a limit is."""
+    if not is_number(limit):
+        raise NotUsable("limit", -1)

@@ -78,11 +78,21 @@ def is_plain(node):
     return True
 
 
+def is_table(node, above):
+    """Whether a dict has plain keys, and functions that are defined above as its values."""
+    if not isinstance(node, ast.Dict) or not all(key is not None and is_plain(key) for key in node.keys):
+        return False
+    return all(isinstance(value, ast.Name) and value.id in above for value in node.values)
+
+
 def module_level(tree, source):
+    above = set()
     for node in tree.body:
+        if isinstance(node, ast.FunctionDef):
+            above.add(node.name)
         if isinstance(node, ast.Assign):
             one = len(node.targets) == 1 and isinstance(node.targets[0], ast.Name)
-            if not one or not is_plain(node.value):
+            if not one or not (is_plain(node.value) or is_table(node.value, above)):
                 yield (node.lineno, 'L3')
             elif isinstance(node.value, (ast.List, ast.Tuple, ast.Dict)):
                 for part in ast.walk(node.value):
@@ -96,12 +106,15 @@ def module_level(tree, source):
 
 
 def functions(tree, source):
+    constants = [
+        alias.name for node in tree.body if isinstance(node, ast.ImportFrom)
+        for alias in node.names if alias.name.isupper()]
     for node in ast.walk(tree):
         if isinstance(node, ast.FunctionDef):
             if node.end_lineno - node.lineno + 1 > 40:
                 yield (node.lineno, 'L10')
             for default in [*node.args.defaults, *[one for one in node.args.kw_defaults if one]]:
-                if not is_plain(default):
+                if not is_plain(default) and not (isinstance(default, ast.Name) and default.id in constants):
                     yield (default.lineno, 'L4')
             for decorator in node.decorator_list:
                 setter = isinstance(decorator, ast.Attribute) and decorator.attr == 'setter'
@@ -150,7 +163,7 @@ def statements(tree, source):
         if isinstance(node, ast.Raise) and node.exc is not None:
             if not isinstance(node.exc, ast.Call) or not isinstance(node.exc.func, ast.Name):
                 yield (node.lineno, 'L19')
-        if isinstance(node, ast.Expr) and not isinstance(node.value, (ast.Call, ast.Constant, ast.Yield)):
+        if isinstance(node, ast.Expr) and not isinstance(node.value, (ast.Call, ast.Constant, ast.Yield, ast.YieldFrom)):
             yield (node.lineno, 'L6')
         if isinstance(node, ast.For) and isinstance(node.iter, ast.Name):
             for part in ast.walk(node):

@@ -1,7 +1,7 @@
-"""A second, slow model of points 5, 6 and 7, and many small houses and calls to hold beside it."""
+"""A second, slow model of points 5 to 8, and many small houses and calls to hold beside it."""
 
 import random
-from itertools import product
+from itertools import permutations, product
 
 from samples import HOUSE
 
@@ -112,6 +112,61 @@ def all_calls(house, hours):
                 yield (name, hour, book, standings)
 
 
+def leads(house, hour):
+    """The leads of an hour, as a set of Python."""
+    found = set()
+    for place in house[2]:
+        if place[0] == 'group':
+            found.add((place[1], 'after', place[6]))
+        if place[0] == 'phone':
+            for hours, early, busy, unheard, off in place[4]:
+                if hour in hours:
+                    found.add((place[1], 'hours', early))
+                else:
+                    found |= {(place[1], 'busy', busy), (place[1], 'unheard', unheard), (place[1], 'off', off)}
+    return {lead for lead in found if lead[2]}
+
+
+def rings(house, hour):
+    """All rings of an hour, by all orders of all names."""
+    between = {}
+    for lead in leads(house, hour):
+        between.setdefault((lead[0], lead[2]), []).append(lead)
+    names = [place[1] for place in house[2]]
+    found = []
+    for many in range(1, len(names) + 1):
+        for order in permutations(names, many):
+            if order[0] == min(order):
+                found += product(*[between.get(pair, ()) for pair in zip(order, order[1:] + order[:1])])
+    return tuple(sorted(found))
+
+
+def longest_walk(house, hour, name, behind=()):
+    """The most leads that can be gone from a name, by all ways; None if there is no end."""
+    if name in behind:
+        return None
+    walks = [longest_walk(house, hour, after, (*behind, name)) for first, _, after in leads(house, hour) if first == name]
+    if None in walks:
+        return None
+    return max([0, *[walk + 1 for walk in walks]])
+
+
+def reached(house, hour, name):
+    """The names that can be come to, ascending."""
+    found = {name}
+    while True:
+        more = found | {after for first, _, after in leads(house, hour) if first in found}
+        if more == found:
+            return sorted(found)
+        found = more
+
+
+def falling(house, hour, name):
+    """The falling numbers, or None."""
+    pairs = [(other, longest_walk(house, hour, other)) for other in reached(house, hour, name)]
+    return None if None in [number for _, number in pairs] else tuple(pairs)
+
+
 def some_setting(chance, names):
     links = [chance.choice([*names, '', '']) for _ in range(3)]
     if chance.random() < 0.3:
@@ -157,6 +212,26 @@ def some_houses(many, seed):
     """So many houses, always the same ones for a seed; the document's own is the first."""
     chance = random.Random(seed)
     return [HOUSE, *[some_house(chance) for _ in range(many)]]
+
+
+def many_calls(house):
+    """How many calls to each place a house has in an hour."""
+    many = 1
+    for place in house[2]:
+        if place[0] == 'phone':
+            many *= 4 * len(place[4])
+    return many
+
+
+def small_houses(many, seed, most=150):
+    """So many houses with at most so many calls to each place in an hour."""
+    chance = random.Random(seed)
+    found = [HOUSE]
+    while len(found) <= many:
+        house = some_house(chance)
+        if many_calls(house) <= most:
+            found.append(house)
+    return found
 
 
 def some_calls(many, each, seed):

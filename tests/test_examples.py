@@ -75,6 +75,41 @@ STAGE_2 = r"""
     raises InvalidText(line=0, field=3)
 """
 
+STAGE_3 = r"""
+    >>> from ledcalls.callreadings import read_call
+    >>> from ledcalls.callseen import books_of, calls_to
+    >>> from ledcalls.calltexts import call_text
+    >>> [len(list(books_of(HOUSE))), len(list(calls_to(HOUSE, 'ann', 9))), call_text(HOUSE, CALL)]
+    [2, 32, 'ann 9 0:busy 0:unheard']
+    >>> read_call(HOUSE, 'vox 23 0:off 1:answers') in list(calls_to(HOUSE, 'vox', 23))
+    True
+    >>> read_call(HOUSE, 'ann 9 0:busy 2:off')
+    raises InvalidText(line=0, field=3)
+
+    >>> from ledcalls.pictures import call_picture
+    >>> [call_picture(HOUSE, CALL), call_picture(HOUSE, ('ann', 9, CALL[2], ('unheard', 'busy')))]
+    [['0 ann busy bob -', '0 bob unheard ann bob'], ['0 ann unheard desk ann', '1 desk after vox ann', '0 vox boxed - -']]
+
+    >>> from ledcalls.callclasses import Call, Harmless
+    >>> one = Call.of(HOUSE, CALL)
+    >>> [one.harms_now, one['bob'], len(one), 'vox' in one, str(one + ('bob', 'busy')), (one + ('bob', 'busy')).course_now[1]]
+    [('round',), (((), '', '', 'ann', ''), 'unheard'), 2, False, 'ann 9 0:busy 0:busy', ('busy', 'bob')]
+    >>> [Harmless(HOUSE, *CALL[:3], ('answers', 'off')) == one.with_standing('ann', 'answers') + ('bob', 'off'), (one % 1).to('bob').course_now]
+    [True, (('bob', 'ann'), ('round', 'bob'))]
+    >>> Harmless(HOUSE, *CALL)
+    raises NotUsable(word='harm', at=-1)
+
+    >>> from ledcalls.rings import can_round, rings_of
+    >>> rings_of(HOUSE, 9)
+    ((('ann', 'busy', 'bob'), ('bob', 'unheard', 'ann')),)
+    >>> [can_round(HOUSE, 'ann'), can_round(HOUSE, 'desk'), can_round(HOUSE, 'ann', hours=())]
+    [True, False, False]
+
+    >>> from ledcalls.numbers import falling_numbers, most_amid
+    >>> [falling_numbers(HOUSE, 'desk', 9), falling_numbers(HOUSE, 'ann', 9), most_amid(HOUSE, 'desk', 9)]
+    [(('desk', 1), ('vox', 0)), None, 1]
+"""
+
 
 def answer(source, names):
     """Return what the document writes for the value of an expression, or for its error."""
@@ -107,6 +142,9 @@ class TestExamples(unittest.TestCase):
 
     def test_stage_2(self):
         self.run_examples(STAGE_2)
+
+    def test_stage_3(self):
+        self.run_examples(STAGE_3)
 
 
 if __name__ == '__main__':

@@ -33,6 +33,11 @@ INTERFACE = {
         'counts_in': ('house', 'call'), 'is_good': ('house', 'call'), 'is_cut': ('house', 'call', 'limit')},
     'harmshows': {'harms_shown': ('house', 'call')},
     'callreadings': {'read_call': ('house', 'text')},
+    'callseen': {'books_of': ('house',), 'calls_to': ('house', 'called', 'hour')},
+    'calltexts': {'call_text': ('house', 'call')},
+    'pictures': {'call_picture': ('house', 'call')},
+    'rings': {'rings_of': ('house', 'hour'), 'can_round': ('house', 'called', '*', 'hours')},
+    'numbers': {'falling_numbers': ('house', 'called', 'hour'), 'most_amid': ('house', 'called', 'hour')},
 }
 BAD = {
     'L10': 'def f():\n' + '    pass\n' * 40, 'L14': '# \u00e9', 'L2': 'from os import path', 'L16': 'import ledcalls',
@@ -90,9 +95,26 @@ class TestLanguage(unittest.TestCase):
             self.assertTrue(free, needs)
             needs = {name: others for name, others in needs.items() if name not in free}
 
+    def test_calls_of_generators_are_iterated_at_once(self):
+        nodes = [node for path in FILES for node in ast.walk(tree_of(path))]
+        made = [node for node in nodes if isinstance(node, ast.FunctionDef)]
+        generators = {
+            node.name for node in made if any(isinstance(part, (ast.Yield, ast.YieldFrom)) for part in ast.walk(node))}
+        self.assertEqual(len([node for node in made if node.name in generators]), len(generators))
+        iterated = {id(node.iter) for node in nodes if isinstance(node, (ast.For, ast.comprehension))}
+        iterated |= {id(node.value) for node in nodes if isinstance(node, ast.YieldFrom)}
+        for node in nodes:
+            if isinstance(node, ast.Call) and isinstance(node.func, ast.Name) and node.func.id in generators:
+                self.assertIn(id(node), iterated, node.func.id)
+                self.assertTrue(all(isinstance(part, ast.Name) for part in node.args), node.func.id)
+        called = {id(node.func) for node in nodes if isinstance(node, ast.Call)}
+        for node in nodes:
+            if isinstance(node, ast.Name) and node.id in generators:
+                self.assertIn(id(node), called, node.id)
+
     def test_methods_that_are_called(self):
         own = {node.name for path in FILES for node in ast.walk(tree_of(path)) if isinstance(node, ast.FunctionDef)}
-        allowed = own | set('append extend pop split join get index count items partition'.split())
+        allowed = own | set('append extend pop split join get index count items values partition'.split())
         for path in FILES:
             for node in ast.walk(tree_of(path)):
                 if isinstance(node, ast.Call) and isinstance(node.func, ast.Attribute):
