@@ -234,6 +234,42 @@ def small_houses(many, seed, most=150):
     return found
 
 
+def all_told(house, hours=range(5)):
+    """A dict with a list for each place: the pairs of a call to it, and what is told of the call."""
+    told = {place[1]: [] for place in house[2]}
+    for call in all_calls(house, hours):
+        told[call[0]].append((call, tell(house, call)))
+    return told
+
+
+def told_houses(many, seed, most=80):
+    """Pairs of a small house and all that is told of its calls; no setting has an hour behind 3."""
+    return [(house, all_told(house)) for house in small_houses(many, seed, most)]
+
+
+def great_house(seed, groups, timed, blank):
+    """A house at the limits: eight places, six phones with three settings, six bars."""
+    chance = random.Random(seed)
+    names = list('abcdefgh')
+    places = []
+    for name in names[:6]:
+        settings = set()
+        while len(settings) < 3:
+            hours = tuple(sorted(chance.sample(range(24), 12))) if len(settings) < timed else ()
+            links = [chance.choice(names) if chance.random() >= blank else '' for _ in range(3)]
+            settings.add((hours, chance.choice(names) if hours else '', *links))
+        places.append(('phone', name, chance.randint(0, 1), chance.choice(['own', 'kept']), tuple(sorted(settings))))
+    # The last two are boxes or groups; if both are groups, one is within the other.
+    for k, name in enumerate(names[6:]):
+        members = (*chance.sample(names[:6], 3), *names[7 + k:][:groups - 1])
+        way, shows = chance.choice(['together', 'turns']), chance.choice(['own', 'kept'])
+        made = ('group', name, k, shows, way, members, chance.choice(['', *names]))
+        places.append(made if k < groups else ('box', name, k))
+    pairs = [(called, name) for called in names for name in names[:6]]
+    border = (chance.choice(['kept', 'lost']), chance.choice(['kept', 'lost']))
+    return (border, tuple(sorted(chance.sample(pairs, 6))), tuple(places))
+
+
 def some_calls(many, each, seed):
     """Pairs of a house and a call of it: so many houses, with so many calls each."""
     chance = random.Random(seed)

@@ -110,6 +110,57 @@ STAGE_3 = r"""
     [(('desk', 1), ('vox', 0)), None, 1]
 """
 
+STAGE_4 = r"""
+    >>> from ledcalls.numbers import falling_numbers, most_amid
+    >>> from ledcalls.roundchecker import lets_numbers
+    >>> [falling_numbers(HOUSE, 'desk', 9), falling_numbers(HOUSE, 'ann', 9), most_amid(HOUSE, 'desk', 9)]
+    [(('desk', 1), ('vox', 0)), None, 1]
+    >>> lets_numbers(HOUSE, 'desk', 9, (('desk', 7), ('vox', 3)))
+    7
+    >>> lets_numbers(HOUSE, 'desk', 9, (('desk', 3), ('vox', 3)))
+    raises InvalidPaper(word='lead', at=('desk', 'after', 'vox'))
+
+    >>> from ledcalls.roundchecker import lets_round
+    >>> from ledcalls.roundpapers import round_paper
+    >>> [lets_round(HOUSE, 'ann', ('call', CALL)), lets_round(HOUSE, 'desk', round_paper(HOUSE, 'desk'))]
+    [True, False]
+    >>> lets_round(HOUSE, 'bob', ('call', CALL))
+    raises InvalidPaper(word='call', at=-1)
+
+    >>> from ledcalls.courses import course_of
+    >>> from ledcalls.harms import end_call, ends_of, harm_call, harms_of, is_harmless
+    >>> [harms_of(HOUSE, 'ann'), harms_of(HOUSE, 'bob'), harm_call(HOUSE, 'ann', 'lost'), is_harmless(HOUSE, harms=('lost',))]
+    [('round', 'twice'), ('barred', 'round', 'twice'), None, True]
+    >>> ends_of(HOUSE, 'ann')
+    (('answered', 'ann'), ('answered', 'bob'), ('boxed', 'vox'), ('busy', 'bob'), ('off', 'ann'), ('off', 'bob'))
+    >>> [course_of(HOUSE, end_call(HOUSE, 'ann', ('busy', 'bob'))), end_call(HOUSE, 'desk', ('busy', 'bob'))]
+    [(('ann', 'bob'), ('busy', 'bob')), None]
+    >>> end_call(HOUSE, 'ann', ('lost', 'bob'))
+    raises NotUsable(word='end', at=-1)
+
+    >>> from ledcalls.harmchecker import lets_harm
+    >>> [lets_harm(HOUSE, 'ann', 'round', CALL), lets_harm(HOUSE, 'bob', 'barred', harm_call(HOUSE, 'bob', 'barred'))]
+    [True, True]
+    >>> lets_harm(HOUSE, 'ann', 'twice', CALL)
+    raises InvalidPaper(word='harm', at=-1)
+
+    >>> from ledcalls.harmclasses import Feared, Harms
+    >>> one, two = Harms(HOUSE), Feared(HOUSE, 'twice', 'lost')
+    >>> [one['bob'], 'lost' in one, len(one), list(two), two.feared_now, two <= one, one <= two]
+    [('barred', 'round', 'twice'), False, 2, ['ann', 'bob'], ('lost', 'twice'), True, False]
+    >>> [two.table_now, str(Feared(HOUSE, 'barred')), one(name='desk', harm='round')]
+    [(('ann', ('twice',)), ('bob', ('twice',)), ('desk', ()), ('vox', ())), 'ann -\nbob barred\ndesk -\nvox -', None]
+    >>> Feared(HOUSE, 'lost', 'lost')
+    raises NotUsable(word='harms', at=1)
+
+    >>> from ledcalls.courses import is_cut
+    >>> from ledcalls.limits import cut_call, least_limit, most_hops, sure_limit, uncut_call
+    >>> [most_hops(HOUSE, 'bob'), most_hops(HOUSE, 'ann'), most_hops(HOUSE, 'vox'), least_limit(HOUSE), sure_limit(HOUSE)]
+    [3, 2, 0, 3, None]
+    >>> [cut_call(HOUSE, 3), cut_call(HOUSE, 2)[0], is_cut(HOUSE, uncut_call(HOUSE, 3), 3), uncut_call(HOUSE, 1)]
+    [None, 'bob', False, None]
+"""
+
 
 def answer(source, names):
     """Return what the document writes for the value of an expression, or for its error."""
@@ -145,6 +196,9 @@ class TestExamples(unittest.TestCase):
 
     def test_stage_3(self):
         self.run_examples(STAGE_3)
+
+    def test_stage_4(self):
+        self.run_examples(STAGE_4)
 
 
 if __name__ == '__main__':

@@ -38,6 +38,16 @@ INTERFACE = {
     'pictures': {'call_picture': ('house', 'call')},
     'rings': {'rings_of': ('house', 'hour'), 'can_round': ('house', 'called', '*', 'hours')},
     'numbers': {'falling_numbers': ('house', 'called', 'hour'), 'most_amid': ('house', 'called', 'hour')},
+    'roundchecker': {
+        'lets_numbers': ('house', 'called', 'hour', 'thing'), 'lets_round': ('house', 'called', 'thing')},
+    'roundpapers': {'round_paper': ('house', 'called')},
+    'harms': {
+        'harms_of': ('house', 'called'), 'harm_call': ('house', 'called', 'harm'), 'is_harmless': ('house', '*', 'harms'),
+        'ends_of': ('house', 'called'), 'end_call': ('house', 'called', 'end')},
+    'harmchecker': {'lets_harm': ('house', 'called', 'harm', 'thing')},
+    'limits': {
+        'most_hops': ('house', 'called'), 'longest_call': ('house', 'called'), 'least_limit': ('house',),
+        'sure_limit': ('house',), 'cut_call': ('house', 'limit'), 'uncut_call': ('house', 'limit')},
 }
 BAD = {
     'L10': 'def f():\n' + '    pass\n' * 40, 'L14': '# \u00e9', 'L2': 'from os import path', 'L16': 'import ledcalls',
