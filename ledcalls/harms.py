@@ -3,8 +3,8 @@
 from ledcalls.endsearch import find_end, found_ends
 from ledcalls.errors import NotUsable
 from ledcalls.harmsearch import find_harm
-from ledcalls.kinds import HARMS, is_harms, is_one_of, is_tuple_of
-from ledcalls.needs import need_called, need_harm, need_house
+from ledcalls.kinds import HARMS, is_one_of, is_tuple_of
+from ledcalls.needs import need_called, need_harm, need_harms, need_house
 from ledcalls.plainparts import listed_names
 from ledcalls.sorting import ascending
 
@@ -29,8 +29,7 @@ def harm_call(house, called, harm):
 def is_harmless(house, *, harms=HARMS):
     """Return whether none of these harms can happen to any place."""
     need_house(house)
-    if not is_harms(harms):
-        raise NotUsable("harms", -1)
+    need_harms(harms)
     names = listed_names(house)
     return all([find_harm(house, name, harm) is None for harm in harms for name in names])
 

@@ -5,7 +5,7 @@ from ledcalls.housechecker import is_bar, lets_house
 from ledcalls.kinds import is_border, is_name, is_number, is_place, is_settings, is_side
 from ledcalls.needs import need_house, need_name
 from ledcalls.plainparts import kind_named
-from ledcalls.settingpairs import is_pair_set, leaves_settings, left_settings
+from ledcalls.settingpairs import is_taking, left_settings
 from ledcalls.sorting import ascending, is_ascending
 
 
@@ -47,7 +47,7 @@ def with_settings(house, name, settings):
 def without_settings(house, taken):
     """Return the house without the settings of these pairs."""
     need_house(house)
-    if not is_pair_set(house, taken) or not leaves_settings(house, taken):
+    if not is_taking(house, taken):
         raise NotUsable("taken", -1)
     border, bars, places = house
     return (border, bars, tuple([_left(place, taken) for place in places]))

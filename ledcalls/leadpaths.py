@@ -20,12 +20,17 @@ def rings_in(leads):
 
 
 def numbered(leads, name):
-    """Return the pair of a dict with the number of each name that can be come to, and the rest.
+    """Return the pair of a dict with the number of each name that can be come to, and the rest."""
+    return numbered_among(leads, reached_by(leads, name))
 
-    A number is how many leads can be gone at most. The rest are the names without a number: a
-    ring can be come to from each of them.
+
+def numbered_among(leads, names):
+    """Return the pair of a dict with the number of each of the names, and the rest.
+
+    The leads from these names go to these names alone. A number is how many leads can be gone at
+    most. The rest are the names without a number: a ring can be come to from each of them.
     """
-    left = reached_by(leads, name)
+    left = names
     numbers = {}
     layer = 0
     while True:
@@ -43,9 +48,12 @@ def _goes_on(leads, name, names):
     return any([start == name and target in names for start, _, target in leads])
 
 
-def falling_pairs(leads, name):
-    """Return the set of pairs of a name that can be come to and its number, None if a ring can."""
-    numbers, rest = numbered(leads, name)
+def falling_pairs(leads, names):
+    """Return the set of pairs of one of the names and its number, None if a ring can be come to.
+
+    The leads from these names go to these names alone.
+    """
+    numbers, rest = numbered_among(leads, names)
     return None if rest else ascending(list(numbers.items()))
 
 

@@ -82,6 +82,12 @@ def walk(scene, called):
         names.append(target)
 
 
+def goes_round(house, call):
+    """Return whether a call goes round."""
+    _, end = walk(scene_of(house, call), call[0])
+    return end[0] == "round"
+
+
 def told_behind(table, names):
     """Return the caller that is told at the last of these places, which a call came along."""
     told = ""

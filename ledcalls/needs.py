@@ -2,14 +2,14 @@
 
 from ledcalls.errors import NotUsable
 from ledcalls.housechecker import is_house
-from ledcalls.kinds import HARMS, is_hour, is_number, is_one_of
+from ledcalls.kinds import HARMS, is_harms, is_hour, is_number, is_one_of
 from ledcalls.plainparts import kind_named
 
 
-def need_house(house):
+def need_house(house, *, word="house"):
     """Raise NotUsable if any value is no house."""
     if not is_house(house):
-        raise NotUsable("house", -1)
+        raise NotUsable(word, -1)
 
 
 def need_name(house, name, *, word="name", kinds=("phone", "group", "box")):
@@ -33,6 +33,12 @@ def need_harm(harm):
     """Raise NotUsable if any value is none of the four harms."""
     if not is_one_of(harm, HARMS):
         raise NotUsable("harm", -1)
+
+
+def need_harms(harms):
+    """Raise NotUsable if any value is no tuple of different harms."""
+    if not is_harms(harms):
+        raise NotUsable("harms", -1)
 
 
 def need_limit(limit):

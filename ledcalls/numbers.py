@@ -2,13 +2,14 @@
 
 from ledcalls.leadpaths import falling_pairs, numbered
 from ledcalls.needs import need_called, need_hour, need_house
-from ledcalls.plainparts import leads_in
+from ledcalls.plainparts import leads_in, reached_by
 
 
 def falling_numbers(house, called, hour):
     """Return the set of pairs of a name and its number, None if a ring can be come to."""
     _need_all(house, called, hour)
-    return falling_pairs(leads_in(house, hour), called)
+    leads = leads_in(house, hour)
+    return falling_pairs(leads, reached_by(leads, called))
 
 
 def most_amid(house, called, hour):

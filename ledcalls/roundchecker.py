@@ -3,7 +3,7 @@
 from ledcalls.callchecker import is_call
 from ledcalls.errors import InvalidPaper
 from ledcalls.kinds import HOURS, is_number, is_one_of, is_tuple_of
-from ledcalls.moves import scene_of, walk
+from ledcalls.moves import goes_round
 from ledcalls.needs import need_called, need_hour, need_house
 from ledcalls.plainparts import leads_in, listed_names
 
@@ -17,23 +17,23 @@ def lets_numbers(house, called, hour, thing):
         raise InvalidPaper("shape", -1)
     names = listed_names(house)
     for k, pair in enumerate(thing):
-        if not _is_pair(pair, names) or (k > 0 and not thing[k - 1][0] < pair[0]):
+        if not is_numbered(pair, names) or (k > 0 and not thing[k - 1][0] < pair[0]):
             raise InvalidPaper("pair", k)
     numbers = {name: number for name, number in thing}
     if called not in numbers:
         raise InvalidPaper("called", -1)
     for lead in leads_in(house, hour):
-        if not _falls(lead, numbers):
+        if not falls(lead, numbers):
             raise InvalidPaper("lead", lead)
     return numbers[called]
 
 
-def _is_pair(thing, names):
+def is_numbered(thing, names):
     """Return whether any value is a pair of one of the names and a number."""
     return is_tuple_of(thing, 2) and is_one_of(thing[0], names) and is_number(thing[1])
 
 
-def _falls(lead, numbers):
+def falls(lead, numbers):
     """Return whether a lead from a name that has a number goes to one with a lesser number."""
     name, _, target = lead
     if name not in numbers:
@@ -68,8 +68,7 @@ def _let_call(house, called, thing):
     """Raise InvalidPaper if any value is no call to called that goes round."""
     if not is_call(house, thing) or thing[0] != called:
         raise InvalidPaper("call", -1)
-    _, end = walk(scene_of(house, thing), called)
-    if end[0] != "round":
+    if not goes_round(house, thing):
         raise InvalidPaper("end", -1)
 
 

@@ -2,9 +2,8 @@
 
 from ledcalls.harmsearch import find_harm
 from ledcalls.kinds import HOURS
-from ledcalls.leadpaths import falling_pairs
 from ledcalls.needs import need_called, need_house
-from ledcalls.plainparts import leads_in
+from ledcalls.numbers import falling_numbers
 
 
 def round_paper(house, called):
@@ -14,4 +13,4 @@ def round_paper(house, called):
     call = find_harm(house, called, "round")
     if call is not None:
         return ("call", call)
-    return ("numbers", tuple([falling_pairs(leads_in(house, hour), called) for hour in HOURS]))
+    return ("numbers", tuple([falling_numbers(house, called, hour) for hour in HOURS]))

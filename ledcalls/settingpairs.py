@@ -20,9 +20,19 @@ def _is_pair(thing, phones):
     return is_setting_among(thing[1], phones[thing[0]])
 
 
+def is_taking(house, thing):
+    """Return whether any value is a set of such pairs that leaves each phone a setting."""
+    return is_pair_set(house, thing) and leaves_settings(house, thing)
+
+
 def leaves_settings(house, pairs):
     """Return whether each phone has a setting that is in none of the pairs."""
     return all([left_settings(place, pairs) != () for place in listed_phones(house)])
+
+
+def without_one(pairs, k):
+    """Return the pairs without the one at index k."""
+    return (*pairs[:k], *pairs[k + 1:])
 
 
 def left_settings(place, pairs):

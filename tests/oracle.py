@@ -1,7 +1,7 @@
 """A second, slow model of points 5 to 8, and many small houses and calls to hold beside it."""
 
 import random
-from itertools import permutations, product
+from itertools import combinations, permutations, product
 
 from samples import HOUSE
 
@@ -247,13 +247,13 @@ def told_houses(many, seed, most=80):
     return [(house, all_told(house)) for house in small_houses(many, seed, most)]
 
 
-def great_house(seed, groups, timed, blank):
-    """A house at the limits: eight places, six phones with three settings, six bars."""
+def great_house(seed, groups, timed, blank, plain=()):
+    """A house at the limits: eight places, six phones with three settings, six bars; plain ones are among the settings."""
     chance = random.Random(seed)
     names = list('abcdefgh')
     places = []
     for name in names[:6]:
-        settings = set()
+        settings = set(plain)
         while len(settings) < 3:
             hours = tuple(sorted(chance.sample(range(24), 12))) if len(settings) < timed else ()
             links = [chance.choice(names) if chance.random() >= blank else '' for _ in range(3)]
@@ -274,3 +274,77 @@ def some_calls(many, each, seed):
     """Pairs of a house and a call of it: so many houses, with so many calls each."""
     chance = random.Random(seed)
     return [(house, some_call(chance, house)) for house in some_houses(many, seed) for _ in range(each)]
+
+
+def tiny_house(chance):
+    """Some house of one or two phones, mostly with two settings, and perhaps groups and a box; or of boxes alone."""
+    if chance.random() < 0.05:
+        return (('kept', 'lost'), (('x', 'y'),), (('box', 'x', 0), ('box', 'y', 1)))
+    names = ['a', 'b'][:chance.choice([1, 2, 2, 2])]
+    groups = ['g', 'h'][:chance.choice([0, 1, 1, 2])]
+    box = ['v'] if chance.random() < 0.5 else []
+    everyone = [*names, *groups, *box]
+    places = []
+    for name in names:
+        settings = {some_setting(chance, everyone) for _ in range(chance.choice([1, 2, 2, 2, 2]))}
+        places.append(('phone', name, chance.randint(0, 1), chance.choice(['own', 'kept']), tuple(sorted(settings))))
+    for k, name in enumerate(groups):
+        able = [*names, *groups[k + 1:]]
+        members = tuple(chance.sample(able, chance.randint(1, len(able))))
+        way = chance.choice(['together', 'turns'])
+        places.append(('group', name, chance.randint(0, 1), 'kept', way, members, chance.choice([*everyone, ''])))
+    places += [('box', name, 1) for name in box]
+    chance.shuffle(places)
+    bars = {(chance.choice(everyone), chance.choice([*names, *box])) for _ in range(chance.randint(0, 2))}
+    border = (chance.choice(['kept', 'lost']), chance.choice(['kept', 'lost']))
+    return (border, tuple(sorted(bars)), tuple(places))
+
+
+def tiny_houses(many, seed):
+    """So many tiny houses, the document's own and one of boxes alone ahead of them."""
+    chance = random.Random(seed)
+    return [HOUSE, (('lost', 'lost'), (), (('box', 'x', 0),)), *[tiny_house(chance) for _ in range(many)]]
+
+
+def pairs_in(house):
+    """The set of the pairs of each phone and each of its settings."""
+    return tuple(sorted((place[1], setting) for place in house[2] if place[0] == 'phone' for setting in place[4]))
+
+
+def subsets(things):
+    """All subsets of a set."""
+    return [part for many in range(len(things) + 1) for part in combinations(things, many)]
+
+
+def leaves_all(house, taken):
+    """Whether each phone keeps a setting."""
+    return all(set(place[4]) - {setting for name, setting in taken if name == place[1]}
+               for place in house[2] if place[0] == 'phone')
+
+
+def enough_sets(house, told, given, harms):
+    """All subsets of given that are enough, by all subsets and all calls that are told of."""
+    phones = [place[1] for place in house[2] if place[0] == 'phone']
+    bad = [
+        set(zip(phones, call[2])) for rows in told.values() for call, row in rows if set(row['harms']) & set(harms)]
+    return [
+        part for part in subsets(given)
+        if leaves_all(house, part) and not any(used.isdisjoint(part) for used in bad)]
+
+
+def least_sets(house, told, given, harms):
+    """All that are enough but have no lesser part that is, as a set."""
+    enough = enough_sets(house, told, given, harms)
+    return tuple(sorted(part for part in enough if not any(set(other) < set(part) for other in enough)))
+
+
+def great_takings(many, seed):
+    """Pairs of a house at the limits, each phone of which can lead to nothing, and six pairs of it."""
+    chance = random.Random(seed)
+    found = []
+    for k in range(many):
+        plain = ((), '', '', '', '')
+        house = great_house(seed + k, k % 3, k % 4, chance.choice([0.5, 0.7, 0.9, 0.93]), [plain])
+        free = [pair for pair in pairs_in(house) if pair[1] != plain]
+        found.append((house, tuple(sorted(chance.sample(free, 6)))))
+    return found

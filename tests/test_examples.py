@@ -161,6 +161,34 @@ STAGE_4 = r"""
     [None, 'bob', False, None]
 """
 
+STAGE_5 = r"""
+    >>> from ledcalls.limitchecker import lets_unsure
+    >>> from ledcalls.limitpapers import unsure_paper
+    >>> [lets_unsure(HOUSE, ('unsure', ('bob', 9, CALL[2], ('unheard', 'unheard')), CALL)), lets_unsure(HOUSE, unsure_paper(HOUSE)) > 1]
+    [3, True]
+    >>> lets_unsure(HOUSE, ('unsure', ('desk', 9, CALL[2], ('off', 'off')), CALL))
+    raises InvalidPaper(word='round', at=-1)
+
+    >>> from ledcalls.takings import greatest_left, least_taken
+    >>> EVE = ('phone', 'eve', 0, 'kept', (((), '', 'sam', '', ''),))
+    >>> SAM = ('phone', 'sam', 0, 'kept', (((), '', '', '', ''), ((), '', '', 'eve', '')))
+    >>> PAIR, GIVEN = (('kept', 'kept'), (), (EVE, SAM)), (('sam', SAM[4][0]), ('sam', SAM[4][1]))
+    >>> [least_taken(PAIR, GIVEN) == (GIVEN[1:],), greatest_left(PAIR, GIVEN) == (GIVEN[:1],), least_taken(PAIR, GIVEN[:1]), least_taken(PAIR, (), harms=('twice',))]
+    [True, True, (), ((),)]
+
+    >>> from ledcalls.takingchecker import lets_taking
+    >>> from ledcalls.takingpapers import taking_paper
+    >>> [lets_taking(PAIR, taking_paper(PAIR, GIVEN[1:])), taking_paper(PAIR, ()), taking_paper(PAIR, GIVEN[:1])]
+    [1, None, None]
+    >>> lets_taking(PAIR, ((), ((('eve', 1), ('sam', 0)),) * 24, ()))
+    raises InvalidPaper(word='numbers', at=0)
+
+    >>> from ledcalls.housechanges import with_bars, without_settings
+    >>> from ledcalls.within import is_within
+    >>> [is_within(without_settings(HOUSE, (('bob', BOB[4][1]),)), HOUSE), is_within(HOUSE, with_bars(HOUSE, ())), is_within(HOUSE, HOUSE)]
+    [True, False, True]
+"""
+
 
 def answer(source, names):
     """Return what the document writes for the value of an expression, or for its error."""
@@ -199,6 +227,9 @@ class TestExamples(unittest.TestCase):
 
     def test_stage_4(self):
         self.run_examples(STAGE_4)
+
+    def test_stage_5(self):
+        self.run_examples(STAGE_5)
 
 
 if __name__ == '__main__':

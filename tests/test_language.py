@@ -48,6 +48,13 @@ INTERFACE = {
     'limits': {
         'most_hops': ('house', 'called'), 'longest_call': ('house', 'called'), 'least_limit': ('house',),
         'sure_limit': ('house',), 'cut_call': ('house', 'limit'), 'uncut_call': ('house', 'limit')},
+    'limitchecker': {'lets_unsure': ('house', 'thing')},
+    'limitpapers': {'unsure_paper': ('house',)},
+    'takings': {
+        'least_taken': ('house', 'given', '*', 'harms'), 'greatest_left': ('house', 'given', '*', 'harms')},
+    'takingchecker': {'lets_taking': ('house', 'thing')},
+    'takingpapers': {'taking_paper': ('house', 'taken')},
+    'within': {'is_within': ('house', 'other')},
 }
 BAD = {
     'L10': 'def f():\n' + '    pass\n' * 40, 'L14': '# \u00e9', 'L2': 'from os import path', 'L16': 'import ledcalls',
