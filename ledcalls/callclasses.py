@@ -10,7 +10,7 @@ from ledcalls.errors import NotUsable
 from ledcalls.harmshows import harms_shown
 from ledcalls.kinds import STANDINGS, is_one_of, is_setting_among, is_tuple_of
 from ledcalls.needs import need_called, need_hour, need_house, need_name
-from ledcalls.plainparts import find_place, kind_named, listed_phones
+from ledcalls.plainparts import find_place, kind_named, own_in, with_own
 
 
 class Call:
@@ -101,7 +101,7 @@ class Call:
         need_name(self._house, name, kinds=("phone",))
         if not is_setting_among(setting, find_place(self._house, name)[4]):
             raise NotUsable("setting", -1)
-        book = _exchanged(self._house, self._book, name, setting)
+        book = with_own(self._house, self._book, name, setting)
         return Call(self._house, self._called, self._hour, book, self._standings)
 
     def with_standing(self, name, standing):
@@ -109,7 +109,7 @@ class Call:
         need_name(self._house, name, kinds=("phone",))
         if not is_one_of(standing, STANDINGS):
             raise NotUsable("standing", -1)
-        standings = _exchanged(self._house, self._standings, name, standing)
+        standings = with_own(self._house, self._standings, name, standing)
         return Call(self._house, self._called, self._hour, self._book, standings)
 
     def __mod__(self, other):
@@ -123,9 +123,7 @@ class Call:
 
     def __getitem__(self, at):
         need_name(self._house, at, kinds=("phone",))
-        names = [phone[1] for phone in listed_phones(self._house)]
-        k = names.index(at)
-        return (self._book[k], self._standings[k])
+        return (own_in(self._house, self._book, at), own_in(self._house, self._standings, at))
 
     def __contains__(self, x):
         return x in self.course_now[0]
@@ -143,12 +141,6 @@ class Call:
 
     def __str__(self):
         return str(call_text(self._house, self.call_now))
-
-
-def _exchanged(house, row, name, thing):
-    """Return the tuple of what each phone has, with thing for the phone of this name."""
-    phones = listed_phones(house)
-    return tuple([thing if phone[1] == name else old for phone, old in zip(phones, row)])
 
 
 def _is_standing_pair(house, thing):

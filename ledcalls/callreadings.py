@@ -1,17 +1,16 @@
 """Calls that lines write."""
 
-from ledcalls.errors import InvalidText, NotUsable
+from ledcalls.errors import InvalidText
 from ledcalls.kinds import STANDINGS
 from ledcalls.linewords import HOUR_WORDS
-from ledcalls.needs import need_house
+from ledcalls.needs import need_house, need_text
 from ledcalls.plainparts import listed_names, listed_phones
 
 
 def read_call(house, text):
     """Return the call of the house that a string writes."""
     need_house(house)
-    if not isinstance(text, str):
-        raise NotUsable("text", -1)
+    need_text(text)
     words = text.split(" ")
     tables = _tables_of(house)
     fault = _first_fault(words, tables)

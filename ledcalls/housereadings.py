@@ -3,6 +3,7 @@
 from ledcalls.errors import InvalidText, NotUsable
 from ledcalls.kinds import is_number
 from ledcalls.linewords import FIRST_MEMBER, first_fault, name_from, setting_from
+from ledcalls.needs import need_text
 
 KINDS = {
     "border": ("edge", "edge"),
@@ -25,7 +26,7 @@ FOLLOWERS = {
 
 def read_place(text, *, line=0):
     """Return the place by form that a string writes."""
-    _need_text(text)
+    need_text(text)
     if not is_number(line):
         raise NotUsable("line", -1)
     rows = _rows_in(text)
@@ -35,17 +36,11 @@ def read_place(text, *, line=0):
 
 def read_house(text):
     """Return the triple by form that a string writes; it may be no house."""
-    _need_text(text)
+    need_text(text)
     rows = _rows_in(text)
     _let_rows(rows, line=0, alone=False)
     bars = [tuple(words[1:]) for words in rows if words[0] == "bar"]
     return (tuple(rows[0][1:]), tuple(bars), _places_from(rows))
-
-
-def _need_text(text):
-    """Raise NotUsable if any value is no string."""
-    if not isinstance(text, str):
-        raise NotUsable("text", -1)
 
 
 def _rows_in(text):

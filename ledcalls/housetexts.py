@@ -15,7 +15,7 @@ def place_text(place):
 
 def house_text(house):
     """Return the text of a triple by form, which may be no house."""
-    if not _is_form(house):
+    if not is_form(house):
         raise NotUsable("house", -1)
     border, bars, places = house
     lines = [f"border {border[0]} {border[1]}"]
@@ -25,7 +25,7 @@ def house_text(house):
     return "\n".join(lines)
 
 
-def _is_form(thing):
+def is_form(thing):
     """Return whether any value is a triple of a border, a set of bars and places by form."""
     if not is_tuple_of(thing, 3) or not is_border(thing[0]) or not _is_bars(thing[1]):
         return False

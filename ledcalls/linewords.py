@@ -10,7 +10,10 @@ CHOICES = {
     "side": ("0", "1"),
     "shows": ("own", "kept"),
     "way": ("together", "turns"),
+    "standing": ("answers", "unheard", "busy", "off"),
 }
+DIGITS = "0123456789"
+MOST_DIGITS = 60
 FIRST_MEMBER = 6
 
 
@@ -31,21 +34,54 @@ def _stands(kind, words, at):
     word = words[at]
     if kind in CHOICES:
         return word in CHOICES[kind]
-    if kind == "hours":
-        return word == "-" or _is_hours_word(word)
+    if kind in CHECKS:
+        is_fit = CHECKS[kind]
+        return is_fit(word)
     if kind == "early" and words[at - 1] == "-":
         return word == "-"
-    if kind == "link" and word == "-":
-        return True
     if kind == "member" and word in words[FIRST_MEMBER:at]:
         return False
     return is_name(word)
 
 
+def _is_link_word(word):
+    """Return whether a word writes a name or the empty string."""
+    return word == "-" or is_name(word)
+
+
+def _is_hour_word(word):
+    """Return whether a word is an hour in decimal."""
+    return word in HOUR_WORDS
+
+
 def _is_hours_word(word):
-    """Return whether a word is a nonempty set of hours in decimal with commas between."""
+    """Return whether a word is a set of hours in decimal with commas between."""
+    if word == "-":
+        return True
     parts = word.split(",")
     return all([part in HOUR_WORDS for part in parts]) and is_hours(hours_from(word))
+
+
+def _is_limit_word(word):
+    """Return whether a word writes a number or None."""
+    return word == "-" or _is_number_word(word)
+
+
+def _is_many_word(word):
+    """Return whether a word is a number of at least 1."""
+    return word != "0" and _is_number_word(word)
+
+
+def _is_number_word(word):
+    """Return whether a word is a number in decimal, not too long and with no leading zero."""
+    if not 1 <= len(word) <= MOST_DIGITS or not all([digit in DIGITS for digit in word]):
+        return False
+    return word == "0" or word[0] != "0"
+
+
+CHECKS = {
+    "link": _is_link_word, "hour": _is_hour_word, "hours": _is_hours_word, "limit": _is_limit_word,
+    "many": _is_many_word}
 
 
 def hours_from(word):

@@ -6,13 +6,14 @@ A move is a lead of the hour, or a triple (name, standing, "") of a phone at whi
 from ledcalls.plainparts import SLOTS, find_place, kind_named, listed_phones
 
 
-def call_by(house, called, hour, moves, *, answers="", rest="off"):
+def call_by(house, called, hour, moves, *, answers="", unheard=(), rest="off"):
     """Return the call to called in which the phones of these moves make them.
 
-    The phone called answers, if there is one, answers; each other one has the standing rest.
+    The phone called answers, if there is one, answers, those that unheard names are unheard; each
+    other one has the standing rest.
     """
     settings = {}
-    standings = {}
+    standings = {name: "unheard" for name in unheard}
     for name, word, target in moves:
         if kind_named(house, name) == "phone":
             settings[name] = _setting_for(find_place(house, name), hour, word, target)

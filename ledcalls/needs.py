@@ -41,6 +41,12 @@ def need_harms(harms):
         raise NotUsable("harms", -1)
 
 
+def need_text(text):
+    """Raise NotUsable if any value is no string."""
+    if not isinstance(text, str):
+        raise NotUsable("text", -1)
+
+
 def need_limit(limit):
     """Raise NotUsable if any value is no number, as a limit is."""
     if not is_number(limit):

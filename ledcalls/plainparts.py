@@ -15,6 +15,18 @@ def listed_phones(house):
     return tuple([place for place in house[2] if place[0] == "phone"])
 
 
+def own_in(house, row, name):
+    """Return what the phone of this name has in a tuple of what each phone has."""
+    names = [phone[1] for phone in listed_phones(house)]
+    return row[names.index(name)]
+
+
+def with_own(house, row, name, thing):
+    """Return the tuple of what each phone has, with thing for the phone of this name."""
+    phones = listed_phones(house)
+    return tuple([thing if phone[1] == name else old for phone, old in zip(phones, row)])
+
+
 def table_of(house):
     """Return a dict with the place of each name."""
     return {place[1]: place for place in house[2]}

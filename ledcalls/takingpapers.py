@@ -1,20 +1,15 @@
 """Papers that show that a taking is one of the least."""
 
-from ledcalls.errors import NotUsable
 from ledcalls.housechanges import without_settings
 from ledcalls.kinds import HOURS
 from ledcalls.leadpaths import falling_pairs
-from ledcalls.needs import need_house
 from ledcalls.plainparts import leads_in, listed_names
-from ledcalls.settingpairs import is_taking, without_one
+from ledcalls.settingpairs import without_one
 from ledcalls.takingsearch import harmful_call
 
 
 def taking_paper(house, taken):
     """Return a paper with this taking, None if it is none of the least against "round"."""
-    need_house(house)
-    if not is_taking(house, taken):
-        raise NotUsable("taken", -1)
     left = without_settings(house, taken)
     names = listed_names(house)
     tables = tuple([falling_pairs(leads_in(left, hour), names) for hour in HOURS])

@@ -18,6 +18,6 @@ def is_within(house, other):
 
 def _fits(place, wide):
     """Return whether a place is another one, perhaps with only some of its settings."""
-    if place[0] != "phone" or wide[0] != "phone":
+    if place[0] != "phone":
         return place == wide
     return place[:4] == wide[:4] and all([setting in wide[4] for setting in place[4]])

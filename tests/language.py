@@ -35,7 +35,7 @@ def faults_in(source):
     tree = ast.parse(source)
     checks = (
         characters, imports, module_level, functions, classes, statements, expressions, names, calls, literals,
-        bindings)
+        bindings, tables, ends_of_with)
     return sorted({fault for check in checks for fault in check(tree, source)})
 
 
@@ -297,3 +297,43 @@ def bindings(tree, source):
             for name in bound_names(node):
                 if name in imported or name in named or name in vars(builtins):
                     yield (node.lineno, 'L15')
+
+
+def tables(tree, source):
+    """What stands in capitals and is no tuple is only read: by an index, in, a loop or a few functions."""
+    made = {node.targets[0].id: node.value for node in tree.body if isinstance(node, ast.Assign)}
+    bound = {name for name, value in made.items() if isinstance(value, (ast.List, ast.Dict))}
+    # Tuples are free; of an imported name only this list tells that it is one.
+    plain = {'HARMS', 'HOURS', 'STANDINGS', 'WAYS', 'PAST_FIRST', 'RUNG_FIRST', 'HOUR_WORDS', 'FIRST_MEMBER'}
+    for node in tree.body:
+        if isinstance(node, ast.ImportFrom):
+            bound |= {alias.name for alias in node.names if alias.name.isupper()} - plain
+    fit = set()
+    for node in ast.walk(tree):
+        if isinstance(node, ast.Subscript):
+            fit.add(id(node.value))
+        if isinstance(node, ast.Compare) and isinstance(node.ops[0], (ast.In, ast.NotIn)):
+            fit.add(id(node.comparators[0]))
+        if isinstance(node, (ast.For, ast.comprehension)):
+            fit.add(id(node.iter))
+        if isinstance(node, ast.Call) and isinstance(node.func, ast.Attribute) and node.func.attr == 'get':
+            fit.add(id(node.func.value))
+        if isinstance(node, ast.Call) and isinstance(node.func, ast.Name) and node.func.id in ('len', 'list', 'dict'):
+            fit |= {id(part) for part in node.args}
+    for node in ast.walk(tree):
+        if isinstance(node, ast.Name) and node.id in bound and isinstance(node.ctx, ast.Load) and id(node) not in fit:
+            yield (node.lineno, 'L15')
+
+
+def ends_of_with(tree, source):
+    """The rows of __exit__ are assignments of attributes to attributes; nothing ends by finally."""
+    for node in ast.walk(tree):
+        if isinstance(node, ast.Try) and node.finalbody:
+            yield (node.lineno, 'L6')
+        if isinstance(node, ast.FunctionDef) and node.name == '__exit__':
+            for part in node.body:
+                plain = isinstance(part, ast.Assign) and len(part.targets) == 1
+                if not plain or not isinstance(part.targets[0], ast.Attribute) or not isinstance(part.value, ast.Attribute):
+                    yield (part.lineno, 'L6')
+            if any(isinstance(part, ast.Name) and part.id != 'self' for part in ast.walk(node)):
+                yield (node.lineno, 'L6')

@@ -189,6 +189,38 @@ STAGE_5 = r"""
     [True, False, True]
 """
 
+STAGE_6 = r"""
+    >>> from ledcalls.backs import call_back, ends_back
+    >>> [ends_back(HOUSE, 'ann', ('ann', 'ann')), ends_back(HOUSE, 'ann', ('bob',)), ends_back(HOUSE, 'ann', ('bob', 'ann'))]
+    [(('boxed', 'vox'),), (('answered', 'bob'), ('round', 'ann')), ()]
+    >>> [ends_back(HOUSE, 'bob', (), hour=0), ends_back(HOUSE, 'bob', (), hour=9), call_back(HOUSE, 'vox', ('bob',))]
+    [(('boxed', 'vox'), ('busy', 'bob'), ('off', 'bob')), (('busy', 'bob'), ('off', 'bob')), None]
+
+    >>> from ledcalls.boards import Board
+    >>> board = Board(HOUSE)
+    >>> [board.stand('ann', 'busy'), board.stand('bob', 'unheard'), board.place_call('ann'), board.hop(), board.hop(), board.at_now]
+    ['', '', 'ann', 'bob', 'ann', ('ann', 'bob', 'ann')]
+    >>> [board.count_now, board.told_now, board.rung_now, board.course_to('bob'), board.barred(('hour', 1))]
+    [1, 'bob', (), (('bob', 'ann'), ('round', 'bob')), 'call']
+    >>> [board.stand('ann', 'answers'), board.rung_now, board.hop(), board.ends_now, board.undo(), board.ends_now, board.table()[0]]
+    ['ann', ('ann',), '', (('answered', 'ann'),), ('hop',), (), 'ann 0:answers 2 *']
+    >>> late = Board(HOUSE, limit=1)
+    >>> [late.do_all(*board.story()[1:6], ('mark', 'm'), ('hop',)), late.ended_since('m'), late.tally(), len(late)]
+    [7, (('cut', 'ann'),), (('cut', 1),), 0]
+
+    >>> from ledcalls.boardreadings import read_event, read_story
+    >>> from ledcalls.boardtexts import event_line, story_lines
+    >>> [event_line(('set', 'bob', BOB[4][1])), read_event('hop'), story_lines((('board', (('kept', 'kept'), (), (VOX,)), None), ('call', 'vox')))]
+    ['set bob 0,1 vox - ann -', ('hop',), ['board - 2', 'border kept kept', 'box vox 1', 'call vox']]
+    >>> read_story(['board 3 2', 'border kept kept'])
+    raises InvalidText(line=2, field=0)
+
+    >>> from ledcalls.desks import Desk
+    >>> desk = Desk(HOUSE)
+    >>> [desk.say(row) for row in ('call desk', 'rung', 'hop', 'ends', 'bars hop', 'course bob', 'undo', 'at')]
+    ['desk', 'ann', '-', 'answered@ann', 'none', 'bob answered@bob', 'hop', 'desk']
+"""
+
 
 def answer(source, names):
     """Return what the document writes for the value of an expression, or for its error."""
@@ -230,6 +262,9 @@ class TestExamples(unittest.TestCase):
 
     def test_stage_5(self):
         self.run_examples(STAGE_5)
+
+    def test_stage_6(self):
+        self.run_examples(STAGE_6)
 
 
 if __name__ == '__main__':

@@ -55,6 +55,36 @@ INTERFACE = {
     'takingchecker': {'lets_taking': ('house', 'thing')},
     'takingpapers': {'taking_paper': ('house', 'taken')},
     'within': {'is_within': ('house', 'other')},
+    'backs': {
+        'ends_back': ('house', 'called', 'rung', '*', 'hour'), 'call_back': ('house', 'called', 'rung', '*', 'hour')},
+    'boardevents': {'is_event': ('thing',)},
+    'boards': {'rehearsed': ('board', '*events')},
+    'boardlogs': {'is_story': ('thing',), 'replayed': ('story',)},
+    'boardtexts': {'event_line': ('event',), 'story_lines': ('story',)},
+    'boardreadings': {'read_event': ('text',), 'read_story': ('lines',)},
+}
+# For each class of the interface its file, its base class, and the methods and properties that stand in it.
+CLASSES = {
+    'House': ('houseclasses', 'object', (
+        '__init__ of read border_now bars_now places_now form_now names_now __getitem__ __call__ __contains__ __len__ __iter__ __str__ __eq__ '
+        '__le__ __add__ ahead __sub__ __mod__ choosing barring bordered shifted naming')),
+    'Chosen': ('houseclasses', 'House', '__init__ source_now book_now'),
+    'Call': ('callclasses', 'object', (
+        '__init__ of read house_now called_now hour_now book_now standings_now call_now course_now rung_now harms_now at_hour to with_setting '
+        'with_standing __mod__ __add__ __getitem__ __contains__ __len__ __eq__ __str__')),
+    'Harmless': ('callclasses', 'Call', '__init__'),
+    'Harms': ('harmclasses', 'object', (
+        '__init__ house_now feared_now table_now harmless_now __getitem__ __call__ __contains__ __len__ __iter__ __str__ __eq__ __le__ without')),
+    'Feared': ('harmclasses', 'Harms', '__init__'),
+    'Board': ('boards', 'object', (
+        '__init__ MOST house_now limit_now hour_now book_now standings_now ends_now at_now count_now told_now rung_now happen set_hour choose '
+        'stand place_call hop drop mark __iadd__ barred tried trial undo do_all counts course_to ended_since tally table story __getitem__ '
+        '__contains__ __len__ __iter__ __eq__')),
+    'Desk': ('desks', 'object', '__init__ say counts'),
+}
+MORE_BAD = {
+    'L15': 'T = {"a": 1}\ndef f(x):\n    return x(T)',
+    'L6': 'class A:\n    def __exit__(self, *told):\n        self.shut(told)',
 }
 BAD = {
     'L10': 'def f():\n' + '    pass\n' * 40, 'L14': '# \u00e9', 'L2': 'from os import path', 'L16': 'import ledcalls',
@@ -75,10 +105,21 @@ def modules_of(tree):
     return [node.module for node in ast.walk(tree) if isinstance(node, ast.ImportFrom)]
 
 
+def parameters_of(code):
+    """The names of the parameters; a star stands before those by name only, or is that of any number of them."""
+    many, late = code.co_argcount, code.co_kwonlyargcount
+    names, stars = code.co_varnames[:many + late], ()
+    if code.co_flags & 4:
+        stars = ('*' + code.co_varnames[many + late],)
+    elif late:
+        stars = ('*',)
+    return (*names[:many], *stars, *names[many:])
+
+
 class TestLanguage(unittest.TestCase):
 
     def test_the_checks_see_what_breaks_a_rule(self):
-        for rule, source in BAD.items():
+        for rule, source in [*BAD.items(), *MORE_BAD.items()]:
             self.assertIn(rule, [rule for _, rule in faults_in(source)])
 
     def test_files(self):
@@ -142,6 +183,9 @@ class TestLanguage(unittest.TestCase):
         nodes = [node for tree in trees for node in ast.walk(tree)]
         assigned = {
             node.attr for node in nodes if isinstance(node, ast.Attribute) and isinstance(node.ctx, ast.Store)}
+        assigned |= {
+            part.targets[0].id for node in nodes if isinstance(node, ast.ClassDef)
+            for part in node.body if isinstance(part, ast.Assign)}
         called = {id(node.func) for node in nodes if isinstance(node, ast.Call)}
         own = {node.name for node in nodes if isinstance(node, ast.FunctionDef)}
         for node in nodes:
@@ -159,10 +203,25 @@ class TestInterface(unittest.TestCase):
                 made = getattr(module, function)
                 self.assertEqual(made.__module__, module.__name__)
                 code = made.__code__
-                many = code.co_argcount
-                late = code.co_varnames[many:many + code.co_kwonlyargcount]
-                got = (*code.co_varnames[:many], *(('*', *late) if late else ()))
-                self.assertEqual(got, wanted, function)
+                self.assertEqual(parameters_of(code), wanted, function)
+
+    def test_classes_stand_in_their_files_with_their_methods(self):
+        for name, (file, base, methods) in CLASSES.items():
+            made = getattr(importlib.import_module(f'{PACKAGE}.{file}'), name)
+            self.assertEqual((made.__module__, made.__bases__[0].__name__), (f'{PACKAGE}.{file}', base))
+            for method in methods.split():
+                self.assertIn(method, vars(made))
+
+    def test_parameters_of_the_methods_of_boards_and_desks(self):
+        board, desk = [importlib.import_module(f'{PACKAGE}.{file}') for file in ('boards', 'desks')]
+        wanted = {
+            '__init__': ('house', '*', 'limit'), 'happen': ('event',), 'set_hour': ('hour',), 'choose': ('name', 'setting'), 'stand': ('name', 'standing'),
+            'place_call': ('name',), 'hop': (), 'drop': (), 'mark': ('name',), 'barred': ('event',), 'tried': ('*events',), 'trial': (), 'undo': (),
+            'do_all': ('*events', 'keep'), 'counts': (), 'course_to': ('name',), 'ended_since': ('name',), 'tally': (), 'table': (), 'story': ()}
+        for name, parameters in wanted.items():
+            self.assertEqual(parameters_of(vars(board.Board)[name].__code__), ('self', *parameters), name)
+        for name, parameters in {'__init__': ('house',), 'say': ('row',), 'counts': ()}.items():
+            self.assertEqual(parameters_of(vars(desk.Desk)[name].__code__), ('self', *parameters), name)
 
 
 if __name__ == '__main__':

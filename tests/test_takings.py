@@ -1,7 +1,7 @@
 """Points 9 (L4), 46, 52 and 54: settings that are taken out, so that harms cannot happen."""
 
 import unittest
-from itertools import combinations
+from itertools import combinations, permutations
 
 from ledcalls.harms import harms_of, is_harmless
 from ledcalls.housechanges import without_settings
@@ -89,6 +89,29 @@ class TestTakings(Strict):
         self.assert_least(one, given, (given[:1], given[1:]), harms=('round',))
         self.assert_same(greatest_left(one, given, harms=('round',)), (given[:1], given[1:]))
         self.assert_least(one, given[1:], (given[1:],), harms=('round',))
+
+    def test_what_includes_another_one_of_several_is_not_least(self):
+        # One ring goes by all three phones, one by b and c alone.
+        one = house(
+            phone('a', PLAIN, ((), '', 'b', '', '')), phone('b', PLAIN, ((), '', 'c', '', '')), phone('c', PLAIN, ((), '', 'a', 'b', '')))
+        given = tuple(pair for pair in pairs_in(one) if pair[1] != PLAIN)
+        for places in permutations(one[2]):
+            self.assert_least(house(*places), given, (given[1:2], given[2:]), harms=('round',))
+
+    def test_they_ascend_whatever_is_found_first(self):
+        # One ring goes by b and c, one by a and c.
+        one = house(
+            phone('a', PLAIN, ((), '', 'c', '', '')), phone('b', PLAIN, ((), '', 'c', '', '')), phone('c', PLAIN, ((), '', 'b', 'a', '')))
+        given = tuple(pair for pair in pairs_in(one) if pair[1] != PLAIN)
+        for places in permutations(one[2]):
+            self.assert_least(house(*places), given, (given[:2], given[2:]), harms=('round',))
+
+    def test_least_sets_that_have_pairs_in_common(self):
+        # Each two of the three phones lead to one another: so two of them are to leave.
+        one = house(phone('a', PLAIN, ((), '', 'b', 'c', '')), phone('b', PLAIN, ((), '', 'a', 'c', '')), phone('c', PLAIN, ((), '', 'a', 'b', '')))
+        given = tuple(pair for pair in pairs_in(one) if pair[1] != PLAIN)
+        for places in permutations(one[2]):
+            self.assert_least(house(*places), given, tuple(combinations(given, 2)), harms=('round',))
 
     def test_greatest_ones_in_their_own_order(self):
         one = house(phone('a', PLAIN, ((), '', 'b', '', '')), phone('b', PLAIN, ((), '', 'a', '', '')))
