@@ -109,7 +109,8 @@ def _with_call(house, limit, moment, event):
 
 def _with_mark(house, limit, moment, event):
     """Return the moment with a mark."""
-    return {**moment, "marks": {**moment["marks"], event[1]: len(moment["ends"])}}
+    marks = moment["marks"]
+    return {**moment, "marks": {**marks, event[1]: len(moment["ends"])}}
 
 
 def _dropped(house, limit, moment, event):
